@@ -1,0 +1,1 @@
+"""Nearkinds: kinds of nearness between places, told by tables."""
