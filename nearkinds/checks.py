@@ -19,3 +19,20 @@ def is_wholes(thing, many):
 def is_wholes_below(thing, many, limit):
     """Whether it is a tuple of so many whole numbers from 0 to one less than the limit."""
     return is_wholes(thing, many) and all([0 <= part < limit for part in thing])
+
+
+def is_whole_between(thing, least, greatest):
+    """Whether it is a whole number from the least to the greatest."""
+    return is_whole(thing) and least <= thing <= greatest
+
+
+def is_rising(things):
+    """Whether each is greater than the one ahead."""
+    return all([one < other for one, other in zip(things, things[1:])])
+
+
+def is_rising_wholes(thing, least, greatest):
+    """Whether it is a rising tuple of whole numbers from the least to the greatest, perhaps ()."""
+    if not isinstance(thing, tuple):
+        return False
+    return all([is_whole_between(part, least, greatest) for part in thing]) and is_rising(thing)

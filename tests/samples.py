@@ -56,6 +56,39 @@ def grid(rows, columns):
     return made(rows * columns, kind_of)
 
 
+def beside(one, other):
+    """Tuples of a place of the one and a place of the other, near by the kinds of both together."""
+    many = len(other)
+    kinds = len(kinds_of(other))
+    return made(len(one) * many, lambda a, b: one[a // many][b // many] * kinds + other[a % many][b % many])
+
+
+def within(one, other):
+    """The other table in the place of each place of the one."""
+    many = len(other)
+    kinds = len(kinds_of(other))
+
+    def kind_of(a, b):
+        if a // many == b // many:
+            return other[a % many][b % many]
+        return one[a // many][b // many] + kinds - 1
+    return made(len(one) * many, kind_of)
+
+
+def renamed(table, names):
+    """The table with names[kind] in the place of each kind."""
+    return tuple(tuple(names[kind] for kind in row) for row in table)
+
+
+def greater_one(many):
+    """As many kinds as places, near by the greater place; not steady from three places on."""
+    return made(many, lambda a, b: 0 if a == b else max(a, b))
+
+
+def kinds_of(table):
+    return sorted({kind for row in table for kind in row})
+
+
 ONE = ((0,),)
 TWO = ((0, 1), (1, 0))
 PATH = ((0, 1, 2), (1, 0, 1), (2, 1, 0))
@@ -68,7 +101,12 @@ STEADY = (
     + [blocks(2, 2), blocks(2, 3), blocks(3, 2), blocks(2, 4), blocks(4, 2), blocks(1, 5), blocks(5, 1)]
     + [words(2, 2), CUBE, words(1, 8), pairs(4), unlike_bits(2), unlike_bits(4), unlike_bits(8)]
     + [grid(2, 3), grid(2, 4), grid(3, 2)]
+    + [beside(ring(4), TWO), within(TWO, ring(4)), within(ring(4), TWO)]
+    + [renamed(CUBE, (0, 3, 1, 2)), renamed(blocks(2, 3), (0, 2, 1)), renamed(within(TWO, ring(4)), (0, 3, 1, 2))]
 )
+
+NOT_WHOLE = [ring(5), ring(7), ring(8)]
+WHOLE = [table for table in STEADY if table not in NOT_WHOLE]
 
 # Every place has as many others by each kind, but two near ones have one in common or none.
 PRISM = made(6, lambda a, b: 0 if a == b else 1 if a // 3 == b // 3 or a % 3 == b % 3 else 2)
@@ -92,6 +130,8 @@ UNSTEADY = [
     otherwise(alike(8), 6, 7, 2),
     otherwise(alike(4), 0, 1, 2),
     otherwise(grid(2, 3), 0, 1, 3),
+    greater_one(4),
+    greater_one(8),
 ]
 
 
@@ -133,6 +173,29 @@ def no_wholes(many):
     return [thing for thing in things if not plain_wholes(thing, many)]
 
 
+def no_rising(least, greatest):
+    """What is no rising tuple of whole numbers from the least to the greatest."""
+    things = [
+        None, True, False, 0, 1, -1, least, greatest, 10 ** 29, "", "0", "12", "x" * 100, {}, {least: least}, deep(12),
+        [], [least], [least, greatest], [[]], [()], [(least,)],
+        (least, least), (least, least, greatest), (least, greatest, greatest), (greatest, greatest), (greatest, least),
+        (least - 1,), (greatest + 1,), (least - 1, least), (least, greatest + 1), (10 ** 29,), (-10 ** 29,),
+        (least, 10 ** 29), (-10 ** 29, greatest),
+    ]
+    if least < greatest:
+        things += [(greatest, greatest - 1), (least + 1, least), (least, greatest, least)]
+    for wrong in (True, False, None, "", "0", "1", [], [least], (), (least,), {}, {least: least}, deep(11)):
+        things += [(wrong,), (wrong, greatest), (least, wrong), (wrong, wrong)]
+    return things
+
+
+def subsets(things):
+    """All rising tuples of some of these, rising."""
+    return sorted(
+        chosen for many in range(len(things) + 1) for chosen in itertools.combinations(sorted(things), many)
+    )
+
+
 def plain_wholes(thing, many):
     return type(thing) is tuple and len(thing) == many and all(type(part) is int for part in thing)
 
@@ -145,10 +208,6 @@ def all_tables(many):
             continue
         named = {pair: kind for pair, kind in zip(two, kinds)}
         yield made(many, lambda a, b: 0 if a == b else named[min(a, b), max(a, b)])
-
-
-def kinds_of(table):
-    return sorted({kind for row in table for kind in row})
 
 
 def plain_shares(table, one, other):

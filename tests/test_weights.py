@@ -9,12 +9,10 @@ from nearkinds.mixes import added, product, sizes
 from nearkinds.weights import all_weights, are_weights, how_often, is_whole_table, mix_by, worth_by
 from refusing import RefusalCase
 from samples import (
-    CUBE, NO_TABLES, ONE, STEADY, TWO, UNSTEADY, alike, blocks, grid, kinds_of, no_wholes, pairs, plain_are_weights,
-    ring, some_mixes, unlike_bits,
+    CUBE, NO_TABLES, NOT_WHOLE, ONE, STEADY, TWO, UNSTEADY, WHOLE, alike, blocks, grid, kinds_of, no_wholes, pairs,
+    plain_are_weights, ring, some_mixes, unlike_bits,
 )
 
-NOT_WHOLE = [ring(5), ring(7), ring(8)]
-WHOLE = [table for table in STEADY if table not in NOT_WHOLE]
 ANYTHING = [None, True, 0, -1, 99, (), (1,), [1, 3, 3, 1], "1", {}, (1, 3, 3, 1), (1, 2, 2)]
 
 # Weights worked out by hand, and how often they come.
