@@ -5,7 +5,7 @@
 
 from nearkinds.checks import is_whole_below, is_wholes
 from nearkinds.errors import NoMix, NoNumber
-from nearkinds.tables import count_kinds, kind_shares, require_kind, require_steady, require_table
+from nearkinds.tables import count_kinds, kind_shares, put_names, require_kind, require_steady, require_table
 
 MOST_TIMES = 8
 
@@ -46,7 +46,7 @@ def square(table, mix):
     """The table's rows with the mix's number for the kind in the place of each kind."""
     require_table(table)
     require_mix(table, mix)
-    return tuple([tuple([mix[kind] for kind in row]) for row in table])
+    return put_names(table, mix)
 
 
 def product(table, one, other):

@@ -5,7 +5,7 @@
 
 from nearkinds.checks import is_rising, is_rising_wholes
 from nearkinds.errors import NoClosed, NoParting, TooMany
-from nearkinds.tables import count_kinds, kind_shares, require_steady, require_table, search_break
+from nearkinds.tables import count_kinds, kind_shares, put_names, require_steady, require_table, search_break
 
 MOST_PARTED_KINDS = 6
 
@@ -31,7 +31,7 @@ def merge(table, parting):
     for name, part in enumerate(parting, start=1):
         for kind in part:
             names[kind] = name
-    return tuple([tuple([names[kind] for kind in row]) for row in table])
+    return put_names(table, names)
 
 
 def made_one(table, parting):

@@ -1,8 +1,8 @@
 """Tables of kinds: what one is, its shares, and what breaks it (points 11 to 13).
 
 Functions whose names begin with `require` refuse what is handed in and tell nothing.
-Those without a promise in the document (`count_kinds`, `count_shares`, `first_pairs`,
-`kind_shares`, `search_break`) take what has been looked at already.
+Those without a promise in the document (`count_kinds`, `put_names`, `take_places`, `count_shares`,
+`first_pairs`, `kind_shares`, `search_break`) take what has been looked at already.
 """
 
 from nearkinds.checks import is_whole_below, is_wholes_below
@@ -51,6 +51,16 @@ def kinds_many(table):
     """How many kinds a table has, 0 too."""
     require_table(table)
     return count_kinds(table)
+
+
+def put_names(rows, names):
+    """The rows with names[kind] in the place of each kind."""
+    return tuple([tuple([names[kind] for kind in row]) for row in rows])
+
+
+def take_places(table, places):
+    """The rows of a table for these places alone, in this order."""
+    return tuple([tuple([table[a][b] for b in places]) for a in places])
 
 
 def require_place(table, place):

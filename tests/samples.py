@@ -80,6 +80,16 @@ def renamed(table, names):
     return tuple(tuple(names[kind] for kind in row) for row in table)
 
 
+def reordered(table, order):
+    """The table with the place order[a] in the stead of each place a."""
+    return made(len(order), lambda a, b: table[order[a]][order[b]])
+
+
+def written(rows):
+    """The text of rows: their figures, `/` between each two."""
+    return "/".join("".join(str(part) for part in row) for row in rows)
+
+
 def greater_one(many):
     """As many kinds as places, near by the greater place; not steady from three places on."""
     return made(many, lambda a, b: 0 if a == b else max(a, b))
@@ -236,6 +246,16 @@ def plain_number(table, i, j, k):
     places = range(len(table))
     a, b = [(a, b) for a in places for b in places if table[a][b] == k][-1]
     return sum(1 for c in places if table[a][c] == i and table[b][c] == j)
+
+
+def plain_closed(table):
+    kinds = kinds_of(table)
+    numbers = {(i, j, k): plain_number(table, i, j, k) for i in kinds for j in kinds for k in kinds}
+    return [
+        chosen
+        for chosen in subsets(kinds)
+        if 0 in chosen and all(k in chosen for i, j, k in numbers if i in chosen and j in chosen and numbers[i, j, k])
+    ]
 
 
 def plain_square(table, mix):

@@ -9,7 +9,7 @@ from nearkinds.tables import is_steady, is_table
 from refusing import RefusalCase
 from samples import (
     CUBE, NO_TABLES, ONE, PATH, PRISM, STEADY, TWO, UNSTEADY, alike, all_tables, beside, blocks, deep, greater_one,
-    grid, kinds_of, no_rising, pairs, plain_breaks, plain_number, ring, subsets, unlike_bits, within,
+    grid, kinds_of, no_rising, pairs, plain_breaks, plain_closed, ring, subsets, unlike_bits, within,
 )
 
 SIX_KINDS = beside(ring(4), TWO)
@@ -29,16 +29,6 @@ def plain_made(table, parting):
     def name_of(kind):
         return 0 if kind == 0 else [kind in part for part in parting].index(True) + 1
     return tuple(tuple(name_of(kind) for kind in row) for row in table)
-
-
-def plain_closed(table):
-    kinds = kinds_of(table)
-    numbers = {(i, j, k): plain_number(table, i, j, k) for i in kinds for j in kinds for k in kinds}
-    return [
-        chosen
-        for chosen in subsets(kinds)
-        if 0 in chosen and all(k in chosen for i, j, k in numbers if i in chosen and j in chosen and numbers[i, j, k])
-    ]
 
 
 class PartingTest(RefusalCase):
